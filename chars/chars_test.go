@@ -66,6 +66,9 @@ func TestParts(t *testing.T) {
 			if whole != (next.Left == 0) || whole && next.Code != int(r) {
 				t.Fatalf("% x: %+v", longer, next)
 			}
+			if completed := longer + string(next.Rest()); !all[completed] || utf8.RuneCountInString(completed) != 1 || whole && completed != longer {
+				t.Fatalf("% x: the rest is % x", longer, next.Rest())
+			}
 			if !whole {
 				walk(longer, next)
 			}

@@ -32,6 +32,22 @@ func (p Part) Next(b byte) (Part, bool) {
 	return next, true
 }
 
+// Rest gives bytes that complete a character that is begun.
+func (p Part) Rest() []byte {
+	var rest []byte
+	for left := p.Left; left > 0; left-- {
+		b := byte(0x80)
+		next, good := p.Next(b)
+		for !good && b < 0xbf {
+			b++
+			next, good = p.Next(b)
+		}
+		rest = append(rest, b)
+		p = next
+	}
+	return rest
+}
+
 // canEnd tells whether some character has these leading bits: what makes a form too long, a surrogate or a code point
 // beyond the last is sure as soon as the second byte has come, and must not wait for the last one.
 func (p Part) canEnd() bool {

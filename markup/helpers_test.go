@@ -4,6 +4,7 @@ import (
 	"fmt"
 	"strings"
 	"testing"
+	"unicode/utf8"
 
 	"markup/api"
 	"markup/markup"
@@ -85,11 +86,14 @@ type outcome struct {
 	at        int
 }
 
+// read feeds and closes. Behind each piece Place and Open are set against what P9 and P10 say of all that was read so far,
+// and as this hangs on no cut, so is P8.
 func read(t *testing.T, o api.Options, pieces ...string) outcome {
 	t.Helper()
 	p := parser(t, o)
 	var all []api.Event
 	var got outcome
+	text := strings.Join(pieces, "")
 	for _, piece := range pieces {
 		list, e := p.Feed([]byte(piece))
 		if words(joined(list)) != words(list) {
@@ -100,6 +104,8 @@ func read(t *testing.T, o api.Options, pieces ...string) outcome {
 		}
 		all = append(all, list...)
 		got.feed = e
+		mindPlace(t, p, text, e)
+		mindOpen(t, p, text, all)
 	}
 	got.events = words(joined(all))
 	got.at = p.At()
@@ -107,7 +113,47 @@ func read(t *testing.T, o api.Options, pieces ...string) outcome {
 	if p.At() != got.at {
 		t.Fatalf("P9: %q: Close changes At from %d to %d", pieces, got.at, p.At())
 	}
+	mindPlace(t, p, text, got.feed)
+	mindOpen(t, p, text, all)
 	return got
+}
+
+// mindPlace sets Place against P9: of the text At bytes were read, and the last one was wrong if there is an error.
+func mindPlace(t *testing.T, p *markup.Parser, text string, e api.Errno) {
+	t.Helper()
+	good := text[:p.At()]
+	if e != api.OK {
+		good = text[:p.At()-1]
+	}
+	wantLine, wantColumn := placeBehind(good)
+	if line, column := p.Place(); line != wantLine || column != wantColumn {
+		t.Fatalf("P9: %q, error %d: Place behind %q is %d, %d; want %d, %d", text, e, good, line, column, wantLine, wantColumn)
+	}
+}
+
+// placeBehind counts once more than the program does, over a whole text, with the library's means.
+func placeBehind(text string) (int, int) {
+	lines := strings.Split(ends(text), "\n")
+	last := lines[len(lines)-1]
+	column := 1
+	for last != "" {
+		r, n := utf8.DecodeRuneInString(last)
+		if r == utf8.RuneError && n == 1 {
+			break
+		}
+		column++
+		last = last[n:]
+	}
+	return len(lines), column
+}
+
+// mindOpen sets Open against P10: the elements whose Start was told, and whose End was not.
+func mindOpen(t *testing.T, p *markup.Parser, text string, told []api.Event) {
+	t.Helper()
+	got, want := strings.Join(p.Open(), " "), strings.Join(opened(told), " ")
+	if got != want {
+		t.Fatalf("P10: %q: At %d Open is %s; want %s", text, p.At(), got, want)
+	}
 }
 
 func many(s string, n int) string {

@@ -150,6 +150,7 @@ func TestEverythingEnds(t *testing.T) {
 		if e != api.OK {
 			t.Fatalf("P3: %+v: %d", o, e)
 		}
+		var text []byte
 		for k := r.Intn(30); k > 0; k-- {
 			piece := []byte(fragments[r.Intn(len(fragments))])
 			if r.Intn(8) == 0 {
@@ -160,6 +161,14 @@ func TestEverythingEnds(t *testing.T) {
 			list, e := p.Feed(piece)
 			if p.At() < at || p.At() > at+len(piece) || e == api.OK && p.At() != at+len(piece) || len(list) > 2*len(piece) {
 				t.Fatalf("P4: %q: %d, At %d to %d, %d events", piece, e, at, p.At(), len(list))
+			}
+			line, column := p.Place()
+			if line < 1 || column < 1 || line+column > p.At()+2 || len(p.Open()) > o.Depth || e != api.OK && len(p.Rest()) > 0 {
+				t.Fatalf("P9, P10: %q: %d, Place %d, %d, Open %q, Rest %q", piece, e, line, column, p.Open(), p.Rest())
+			}
+			if e == api.OK {
+				text = append(text, piece...)
+				mindRest(t, p, o, string(text))
 			}
 		}
 		p.Close()

@@ -61,13 +61,22 @@ func (p *Parser) At() int {
 }
 
 // Place tells a line and a column (P9).
-func (p *Parser) Place() (int, int) { return 0, 0 }
+func (p *Parser) Place() (int, int) {
+	return p.reader.Place()
+}
 
 // Open tells the names of the elements that are open (P10).
-func (p *Parser) Open() []string { return nil }
+func (p *Parser) Open() []string {
+	return p.reader.Open()
+}
 
 // Rest tells bytes that complete the document (P10).
-func (p *Parser) Rest() []byte { return nil }
+func (p *Parser) Rest() []byte {
+	if p.ended != api.OK {
+		return nil
+	}
+	return p.reader.Rest()
+}
 
 // Write writes events as text (P13).
 func Write(o api.Options, list []api.Event) ([]byte, api.Errno) { return nil, api.OK }

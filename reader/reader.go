@@ -30,12 +30,15 @@ type Reader struct {
 	ref      refs.Ref
 	returned bool // the last byte was a byte d
 
+	// Where the character stands that comes next or that is begun.
+	line, column int
+
 	told told
 }
 
 // Make gives a reader of a text of which nothing was read.
 func Make(o api.Options) Reader {
-	return Reader{options: o, state: outside}
+	return Reader{options: o, state: outside, line: 1, column: 1}
 }
 
 // Read reads one byte, and answers its error if it is the wrong byte: then the reader must read no more.
@@ -48,14 +51,41 @@ func (r *Reader) Read(b byte) api.Errno {
 	}
 	r.returned = b == '\r'
 	if r.returned {
-		return r.readByte('\n')
+		b = '\n'
 	}
-	return r.readByte(b)
+	e := r.readByte(b)
+	// The wrong byte leaves the place where it is: at the character that this byte begins or should have gone on with.
+	if e == api.OK {
+		r.movePlace(b)
+	}
+	return e
+}
+
+func (r *Reader) movePlace(b byte) {
+	switch {
+	case b == '\n':
+		r.line++
+		r.column = 1
+	case r.part.Left == 0:
+		r.column++
+	}
 }
 
 // Take hands out what was told since the last Take.
 func (r *Reader) Take() []api.Event {
 	return r.told.take()
+}
+
+// Place tells the line and the column of the character that comes next or that is begun.
+func (r *Reader) Place() (int, int) {
+	return r.line, r.column
+}
+
+// Open gives the names of the open elements, in a list that is the caller's.
+func (r *Reader) Open() []string {
+	var open []string
+	open = append(open, r.open...)
+	return open
 }
 
 // IsDocument tells whether the text that was read is a document.

@@ -30,3 +30,11 @@ const (
 	inEndName     = 20
 	behindEndName = 21 // behind a space behind the name
 )
+
+func isStartTag(state int) bool {
+	return state >= inStartName && state <= behindSlash
+}
+
+func isEndTag(state int) bool {
+	return state == inEndName || state == behindEndName
+}

@@ -67,6 +67,42 @@ func (r Ref) Next(b byte) (Ref, bool) {
 	return Ref{}, false
 }
 
+// Rest gives bytes that complete an open reference, and none if there is no open one.
+func (r Ref) Rest() string {
+	switch r.place {
+	case behindAnd, inName:
+		return r.restOfName()
+	case behindHash, inDecimal:
+		return r.restOfNumber(10)
+	case behindX, inHexadecimal:
+		return r.restOfNumber(16)
+	}
+	return ""
+}
+
+func (r Ref) restOfName() string {
+	for i := 0; i < len(names); i++ {
+		if begins(names[i], r.name) {
+			return names[i][len(r.name):]
+		}
+	}
+	return ""
+}
+
+// restOfNumber needs two noughts at most to make a number that of a character, but for 0, as which a number counts too
+// that has no digits yet: noughts would not change it.
+func (r Ref) restOfNumber(base int) string {
+	switch {
+	case chars.IsCharacter(r.code):
+		return ";"
+	case chars.IsCharacter(r.code * base):
+		return "0;"
+	case chars.IsCharacter(r.code * base * base):
+		return "00;"
+	}
+	return "9;"
+}
+
 func (r Ref) letter(b byte) (Ref, bool) {
 	name := r.name + string([]byte{b})
 	for i := 0; i < len(names); i++ {

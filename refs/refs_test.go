@@ -7,20 +7,26 @@ import (
 	"markup/chars"
 )
 
-// read reads what stands behind "&", and tells how many bytes went well and the code point, or -1 if there is none.
-func read(text string) (int, int) {
+// begun reads what stands behind "&", and tells how many bytes went well.
+func begun(text string) (Ref, int) {
 	r := Begin()
 	for i := 0; i < len(text); i++ {
 		next, good := r.Next(text[i])
 		if !good {
-			return i, -1
+			return r, i
 		}
 		r = next
 	}
-	if r.IsOpen() {
-		return len(text), -1
+	return r, len(text)
+}
+
+// read tells how many bytes went well and the code point, or -1 if there is none.
+func read(text string) (int, int) {
+	r, n := begun(text)
+	if n < len(text) || r.IsOpen() {
+		return n, -1
 	}
-	return len(text), r.Code()
+	return n, r.Code()
 }
 
 func TestReferences(t *testing.T) {
@@ -60,20 +66,35 @@ func TestEveryNumber(t *testing.T) {
 			if _, got = read(text + ";"); got != want {
 				t.Fatalf("&%s;: %x", text, got)
 			}
-			if n == len(text) && want == -1 && !canEnd(text) {
-				t.Fatalf("&%s: no digits make it a character", text)
+			if n == len(text) {
+				mindRest(t, text)
 			}
 		}
 	}
 }
 
-func canEnd(text string) bool {
-	for _, digits := range []string{"0", "9", "00", "99"} {
-		if _, code := read(text + digits + ";"); code >= 0 {
-			return true
+// mindRest: what is taken can still become a reference, and Rest says by which bytes.
+func mindRest(t *testing.T, text string) {
+	t.Helper()
+	r, _ := begun(text)
+	rest := r.Rest()
+	if n, code := read(text + rest); n != len(text+rest) || !chars.IsCharacter(code) || len(rest) > 5 {
+		t.Fatalf("&%s: the rest is %s: %d bytes, code %x", text, rest, n, code)
+	}
+}
+
+func TestRest(t *testing.T) {
+	for _, text := range []string{"lt;", "gt;", "amp;", "quot;", "apos;", "#x0009;", "#09;", "#x", "#", "#000", "#x000", "#31", "#x1F", "#xFFFF"} {
+		for n := 0; n <= len(text); n++ {
+			mindRest(t, text[:n])
+		}
+		if r, _ := begun(text); !r.IsOpen() && r.Rest() != "" {
+			t.Errorf("&%s, ended: the rest is %s", text, r.Rest())
 		}
 	}
-	return false
+	if r := (Ref{}); r.Rest() != "" {
+		t.Errorf("the rest of no reference is %s", r.Rest())
+	}
 }
 
 func TestNothingBehindTheEnd(t *testing.T) {
