@@ -25,11 +25,11 @@ func later(t *testing.T, p *markup.Parser, text string, want api.Errno) {
 }
 
 func TestBehindClose(t *testing.T) {
-	for _, s := range samples {
+	for _, s := range everySample() {
 		if s.feed != api.OK {
 			continue
 		}
-		p := parser(t, usual)
+		p := parser(t, s.o)
 		p.Feed([]byte(s.text))
 		want := p.Close()
 		if want != s.end {
@@ -43,11 +43,11 @@ func TestBehindClose(t *testing.T) {
 }
 
 func TestBehindAnError(t *testing.T) {
-	for _, s := range samples {
+	for _, s := range everySample() {
 		if s.feed == api.OK {
 			continue
 		}
-		p := parser(t, usual)
+		p := parser(t, s.o)
 		p.Feed([]byte(s.text))
 		later(t, p, s.text, s.feed)
 	}

@@ -34,6 +34,8 @@ var (
 // measured: a text that is a document with no bounds: its events, and the bounds that it needs.
 type measured struct {
 	events              []api.Event
+	judged              []judged
+	at                  int // how many bytes were read
 	depth, attrs, token int
 	open                []string
 	over                bool
@@ -51,6 +53,7 @@ func measure(text string) (measured, bool) {
 			return m, false
 		}
 		text = text[n:]
+		m.at += n
 	}
 	m.events = joined(m.events)
 	return m, m.over && len(m.open) == 0
@@ -80,6 +83,7 @@ func (m *measured) next(text string) int {
 	}
 	if f := instructionForm.FindStringSubmatch(text); f != nil && strings.ToLower(f[1]) != "xml" {
 		m.tell(api.Event{Kind: api.Instruction, Name: m.counted(f[1]), Value: m.counted(ends(f[2]))})
+		m.judgedWith(len("<?"+f[1]) + 1)
 		return len(f[0])
 	}
 	if f := startForm.FindStringSubmatch(text); f != nil && !m.over {
@@ -115,6 +119,12 @@ func number(b bool) int {
 
 func (m *measured) tell(e api.Event) {
 	m.events = append(m.events, e)
+	m.judged = append(m.judged, judged{e, 0})
+}
+
+// judgedWith minds with which of its bytes the names of the last event are judged.
+func (m *measured) judgedWith(byte int) {
+	m.judged[len(m.judged)-1].at = m.at + byte
 }
 
 func (m *measured) text(s string) {
@@ -177,9 +187,11 @@ func (m *measured) start(f []string) int {
 	}
 	m.attrs = max(m.attrs, len(e.Attrs))
 	m.tell(e)
+	slash := f[len(f)-1]
+	m.judgedWith(len(f[0]) - len(slash))
 	m.open = append(m.open, f[1])
 	m.depth = max(m.depth, len(m.open))
-	if f[len(f)-1] == "/" {
+	if slash == "/" {
 		m.end()
 	}
 	return len(f[0])

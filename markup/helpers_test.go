@@ -49,7 +49,7 @@ func words(list []api.Event) string {
 		if e.Space != "" {
 			s += fmt.Sprintf(" of %q", e.Space)
 		}
-		if e.Value != "" || e.Kind == api.Text || e.Kind == api.Comment {
+		if e.Value != "" || e.Kind == api.Text || e.Kind == api.Comment || e.Kind == api.Bind {
 			s += fmt.Sprintf(" %q", e.Value)
 		}
 		for _, a := range e.Attrs {
@@ -75,6 +75,10 @@ func kindName(kind int) string {
 		return "Comment"
 	case api.Instruction:
 		return "Instruction"
+	case api.Bind:
+		return "Bind"
+	case api.Unbind:
+		return "Unbind"
 	}
 	return ""
 }

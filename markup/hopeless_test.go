@@ -117,7 +117,7 @@ func TestHopelessAfterWalks(t *testing.T) {
 			o := api.Options{Depth: 1 + r.Intn(3), Attrs: r.Intn(4), Token: 8 + r.Intn(2)}
 			text := ""
 			for i := r.Intn(60); i > 0; i-- {
-				text += goOn(t, r, o, text)
+				text += goOn(t, r, o, text, fragments)
 			}
 			mindNext(t, o, text, []byte(telling))
 		})
@@ -125,7 +125,7 @@ func TestHopelessAfterWalks(t *testing.T) {
 }
 
 // goOn gives a few bytes with which a text goes on, or none if none were found.
-func goOn(t *testing.T, r *rand.Rand, o api.Options, text string) string {
+func goOn(t *testing.T, r *rand.Rand, o api.Options, text string, fragments []string) string {
 	for range 100 {
 		more := fragments[r.Intn(len(fragments))]
 		p := parser(t, o)
@@ -141,6 +141,12 @@ var fragments = []string{
 	"&", "&#", "&lt;", "x", "lt", "amp", ";", "1", "41", "a", "b", "ab", "xml", "_", "<a>", "<b ", "</a>", "</b>", "<!--", "<![CDATA[", "<?t ", "a='", "b=\"", "abcdefg", "\xc3", "\xa9", "\xe2\x82", "\xac", "é",
 }
 
+// namedFragments: such that stand in names and declarations.
+var namedFragments = []string{
+	"<a", "<p:a", "<p:b>", "<q:a ", "<xml:a>", "</a>", "</p:a>", "</p:b>", ">", ">", "/>", "/", " ", "\n", ":", "p", "p:", "a", "xmlns", "xmlns:", "=", "'", "'", "\"", "u", "x", "<?", "?", "?>", "<!--", "-->",
+	" xmlns='u'", " xmlns=''", " xmlns:p='u'", " xmlns:p='v'", " xmlns:q='u'", " xmlns:q=\"v\"", " p:b=''", " q:b=''", " xml:b=''", " b=''",
+}
+
 // TestEverythingEnds: P1: bytes at random, and fragments at random, neither end badly nor read on.
 func TestEverythingEnds(t *testing.T) {
 	r := rand.New(rand.NewSource(1))
@@ -153,13 +159,16 @@ func TestEverythingEnds(t *testing.T) {
 		var text []byte
 		for k := r.Intn(30); k > 0; k-- {
 			piece := []byte(fragments[r.Intn(len(fragments))])
+			if i%2 == 0 {
+				piece = []byte(namedFragments[r.Intn(len(namedFragments))])
+			}
 			if r.Intn(8) == 0 {
 				piece = make([]byte, r.Intn(20))
 				r.Read(piece)
 			}
 			at := p.At()
 			list, e := p.Feed(piece)
-			if p.At() < at || p.At() > at+len(piece) || e == api.OK && p.At() != at+len(piece) || len(list) > 2*len(piece) {
+			if p.At() < at || p.At() > at+len(piece) || e == api.OK && p.At() != at+len(piece) || len(list) > 2*p.At() {
 				t.Fatalf("P4: %q: %d, At %d to %d, %d events", piece, e, at, p.At(), len(list))
 			}
 			line, column := p.Place()

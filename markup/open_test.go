@@ -50,8 +50,8 @@ func TestOpen(t *testing.T) {
 
 // TestOpenBehindEachByte: P10: behind each beginning of the samples, byte by byte.
 func TestOpenBehindEachByte(t *testing.T) {
-	for _, s := range samples {
-		p := parser(t, usual)
+	for _, s := range everySample() {
+		p := parser(t, s.o)
 		var told []api.Event
 		for i := 0; i < len(s.text); i++ {
 			list, _ := p.Feed([]byte{s.text[i]})

@@ -30,9 +30,9 @@ func isSpoilt(list []api.Event) bool {
 
 // TestOwners: P2: who has been told events may write into them, and into the piece that he has fed.
 func TestOwners(t *testing.T) {
-	for _, s := range samples {
+	for _, s := range everySample() {
 		for _, n := range []int{1, 2, 3, 5, 8} {
-			p := parser(t, usual)
+			p := parser(t, s.o)
 			var told []api.Event
 			var spoilt [][]api.Event
 			for rest := s.text; rest != ""; {
@@ -67,8 +67,14 @@ func TestOwners(t *testing.T) {
 
 // TestNoSharedRoom: P2: no two lists of attributes have room in common, nor the spare room behind them.
 func TestNoSharedRoom(t *testing.T) {
-	p := parser(t, usual)
-	list, _ := p.Feed([]byte("<a b='1' c='2' d='3'><e b='4'/><f g='5' h='6'>"))
+	noSharedRoom(t, usual, "<a b='1' c='2' d='3'><e b='4'/><f g='5' h='6'>")
+	noSharedRoom(t, named, "<p:a b='1' xmlns:p='u' c='2' d='3' xmlns='v'><e p:b='4'/><f g='5' xmlns:q='w' p:h='6'>")
+}
+
+func noSharedRoom(t *testing.T, o api.Options, text string) {
+	t.Helper()
+	p := parser(t, o)
+	list, _ := p.Feed([]byte(text))
 	want := words(list)
 	for i := range list {
 		if len(list[i].Attrs) == 0 {
@@ -90,9 +96,10 @@ func TestNoSharedRoom(t *testing.T) {
 // TestStrangers: P2: parsers know nothing of one another.
 func TestStrangers(t *testing.T) {
 	var all []*markup.Parser
+	samples := everySample()
 	told := make([][]api.Event, len(samples))
-	for range samples {
-		all = append(all, parser(t, usual))
+	for _, s := range samples {
+		all = append(all, parser(t, s.o))
 	}
 	for i, busy := 0, true; busy; i++ {
 		busy = false

@@ -73,8 +73,8 @@ func TestPlace(t *testing.T) {
 
 // TestPlaceBehindEachByte: P9: behind each beginning of the samples, byte by byte.
 func TestPlaceBehindEachByte(t *testing.T) {
-	for _, s := range samples {
-		p := parser(t, usual)
+	for _, s := range everySample() {
+		p := parser(t, s.o)
 		for i := 0; i < len(s.text); i++ {
 			_, e := p.Feed([]byte{s.text[i]})
 			mindPlace(t, p, s.text, e)

@@ -22,6 +22,9 @@ func mindRest(t *testing.T, p *markup.Parser, o api.Options, text string) {
 	if len(rest) > most {
 		t.Fatalf("P10: %+v: %q: Rest is %q: %d bytes, where %d are the most", o, text, rest, len(rest), most)
 	}
+	if o.Names {
+		mindRestWithNames(t, p, o, text)
+	}
 	o.Names = false
 	second := parser(t, o)
 	_, feed := second.Feed([]byte(text))
@@ -34,6 +37,18 @@ func mindRest(t *testing.T, p *markup.Parser, o api.Options, text string) {
 	}
 	if open := second.Open(); len(open) != 0 {
 		t.Fatalf("P10: %q: Open behind a document is %q", text+rest, open)
+	}
+}
+
+// mindRestWithNames: a parser with Names takes the same bytes too, but for names that are wrong.
+func mindRestWithNames(t *testing.T, p *markup.Parser, o api.Options, text string) {
+	t.Helper()
+	second := parser(t, o)
+	_, feed := second.Feed([]byte(text))
+	_, more := second.Feed(p.Rest())
+	end := second.Close()
+	if feed != api.OK || more != end || end != api.OK && end != api.ErrSpace {
+		t.Fatalf("P10: %+v: %q: with the Rest %q it answers %d, %d, %d", o, text, p.Rest(), feed, more, end)
 	}
 }
 
@@ -90,12 +105,8 @@ func TestRest(t *testing.T) {
 
 // TestRestOfSamples: behind each beginning of the samples, and behind each context with each byte.
 func TestRestOfSamples(t *testing.T) {
-	for _, s := range samples {
-		for _, names := range []bool{false, true} {
-			o := usual
-			o.Names = names
-			mindRests(t, o, s.text)
-		}
+	for _, s := range everySample() {
+		mindRests(t, s.o, s.text)
 	}
 	for _, c := range contexts {
 		mindRests(t, usual, c.text)
@@ -196,7 +207,7 @@ func TestRestOfDocuments(t *testing.T) {
 		o := api.Options{Depth: 1 + r.Intn(3), Attrs: r.Intn(4), Token: 8 + r.Intn(2)}
 		text := ""
 		for i := r.Intn(60); i > 0; i-- {
-			text += goOn(t, r, o, text)
+			text += goOn(t, r, o, text, fragments)
 		}
 		whole(t, o, text)
 	}
@@ -204,8 +215,8 @@ func TestRestOfDocuments(t *testing.T) {
 
 // TestNoRest: P10: behind an error and behind a Close there are no bytes, whatever is called then.
 func TestNoRest(t *testing.T) {
-	for _, s := range samples {
-		p := parser(t, usual)
+	for _, s := range everySample() {
+		p := parser(t, s.o)
 		_, e := p.Feed([]byte(s.text))
 		for _, piece := range []string{"", "<a/>", "\xff"} {
 			if e == api.OK {
@@ -226,8 +237,8 @@ func TestNoRest(t *testing.T) {
 // TestAskingChangesNothing: Place, Open and Rest between all bytes leave what the text is answered as it is, and their
 // answers may be written into.
 func TestAskingChangesNothing(t *testing.T) {
-	for _, s := range samples {
-		p := parser(t, usual)
+	for _, s := range everySample() {
+		p := parser(t, s.o)
 		var told []api.Event
 		var got outcome
 		for i := 0; i < len(s.text); i++ {

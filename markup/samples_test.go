@@ -149,8 +149,8 @@ func (s sample) want() outcome {
 }
 
 func TestSamples(t *testing.T) {
-	for _, s := range samples {
-		if got := read(t, usual, s.text); got != s.want() {
+	for _, s := range everySample() {
+		if got := read(t, s.o, s.text); got != s.want() {
 			t.Errorf("P4 to P7, P9: %q:\n got %+v\nwant %+v", s.text, got, s.want())
 		}
 	}
@@ -158,7 +158,7 @@ func TestSamples(t *testing.T) {
 
 // TestCuts: P8: each sample cut in two and in three at all places, and byte by byte with empty pieces among them.
 func TestCuts(t *testing.T) {
-	for _, s := range samples {
+	for _, s := range everySample() {
 		var bytes []string
 		for i := 0; i < len(s.text); i++ {
 			bytes = append(bytes, "", s.text[i:i+1])
@@ -172,9 +172,9 @@ func TestCuts(t *testing.T) {
 	}
 }
 
-func cut(t *testing.T, s sample, pieces ...string) {
+func cut(t *testing.T, s given, pieces ...string) {
 	t.Helper()
-	if got := read(t, usual, pieces...); got != s.want() {
+	if got := read(t, s.o, pieces...); got != s.want() {
 		t.Fatalf("P8: %q:\n got %+v\nwant %+v", pieces, got, s.want())
 	}
 }

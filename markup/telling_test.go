@@ -65,13 +65,13 @@ func TestTelling(t *testing.T) {
 
 // TestTellingAsSoonAsCan: P6, P8: behind each byte all has been told that the text so far tells in one piece.
 func TestTellingAsSoonAsCan(t *testing.T) {
-	for _, s := range samples {
-		p := parser(t, usual)
+	for _, s := range everySample() {
+		p := parser(t, s.o)
 		var told []api.Event
 		for i := 0; i < len(s.text); i++ {
 			list, _ := p.Feed([]byte(s.text[i : i+1]))
 			told = append(told, list...)
-			if whole := read(t, usual, s.text[:i+1]).events; words(joined(told)) != whole {
+			if whole := read(t, s.o, s.text[:i+1]).events; words(joined(told)) != whole {
 				t.Fatalf("P6: %q byte by byte has told %s; in one piece it tells %s", s.text[:i+1], words(joined(told)), whole)
 			}
 		}

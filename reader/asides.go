@@ -3,6 +3,7 @@ package reader
 import (
 	"markup/api"
 	"markup/chars"
+	"markup/spaces"
 )
 
 func (r *Reader) readDash(b byte) api.Errno {
@@ -40,18 +41,17 @@ func (r *Reader) readInstructionName(b byte) api.Errno {
 		return api.ErrSyntax
 	case chars.InName(b):
 		return r.lengthenName(b)
-	case isXML(r.token):
+	case isXML(r.token) || b != '?' && !chars.IsSpace(b):
 		return api.ErrSyntax
-	case b == '?':
-		r.name = r.takeToken()
-		r.state = behindBareInstruction
-		return api.OK
-	case chars.IsSpace(b):
-		r.name = r.takeToken()
-		r.state = behindInstructionName
-		return api.OK
+	case r.options.Names && spaces.HasColon(string(r.token)):
+		return api.ErrSpace
 	}
-	return api.ErrSyntax
+	r.name = r.takeToken()
+	r.state = behindInstructionName
+	if b == '?' {
+		r.state = behindBareInstruction
+	}
+	return api.OK
 }
 
 func isXML(name []byte) bool {

@@ -5,6 +5,7 @@ import (
 	"markup/api"
 	"markup/chars"
 	"markup/refs"
+	"markup/spaces"
 )
 
 // Reader is how a text that was read so far can go on.
@@ -14,6 +15,8 @@ type Reader struct {
 
 	open []string // the names of the open elements, the outermost first
 	over bool     // the outermost element has ended
+
+	scope spaces.Scope // with Names alone; a tag whose attributes have ended is in it already
 
 	token []byte // what has come of a name, a value, a comment or an instruction
 	count int    // its characters
@@ -38,7 +41,7 @@ type Reader struct {
 
 // Make gives a reader of a text of which nothing was read.
 func Make(o api.Options) Reader {
-	return Reader{options: o, state: outside, line: 1, column: 1}
+	return Reader{options: o, state: outside, scope: spaces.Make(), line: 1, column: 1}
 }
 
 // Read reads one byte, and answers its error if it is the wrong byte: then the reader must read no more.

@@ -29,17 +29,30 @@ func (r *Reader) readStartGap(b byte) api.Errno {
 	case chars.IsSpace(b):
 		r.state = behindStartSpace
 		return api.OK
-	case b == '/':
-		r.state = behindSlash
-		return api.OK
-	case b == '>':
-		r.tellStart()
-		r.open = append(r.open, r.name)
-		r.name = ""
-		r.resume()
-		return api.OK
+	case b == '/' || b == '>':
+		return r.endAttributes(b)
 	}
 	return api.ErrSyntax
+}
+
+// endAttributes judges the names of the tag: not sooner, for a declaration binds the names ahead of it in its tag too.
+func (r *Reader) endAttributes(b byte) api.Errno {
+	if r.options.Names {
+		attrs, good := r.scope.Enter(r.name, r.attrs)
+		if !good {
+			return api.ErrSpace
+		}
+		r.attrs = attrs
+	}
+	if b == '/' {
+		r.state = behindSlash
+		return api.OK
+	}
+	r.tellStart()
+	r.open = append(r.open, r.name)
+	r.name = ""
+	r.resume()
+	return api.OK
 }
 
 func (r *Reader) readStartSpace(b byte) api.Errno {
@@ -66,13 +79,18 @@ func (r *Reader) readSlash(b byte) api.Errno {
 
 // tellStart lets go of the attributes, for they are the caller's then.
 func (r *Reader) tellStart() {
-	r.told.add(api.Event{Kind: api.Start, Name: r.name, Attrs: r.attrs})
+	r.tellBinds()
+	space := r.spaceOf(r.name)
+	r.told.add(api.Event{Kind: api.Start, Name: r.name, Space: space, Attrs: r.attrs})
 	r.attrs = nil
 }
 
 // tellEnd ends an element that is no longer, or never was, among the open ones.
 func (r *Reader) tellEnd(name string) {
-	r.told.add(api.Event{Kind: api.End, Name: name})
+	space := r.spaceOf(name)
+	r.told.add(api.Event{Kind: api.End, Name: name, Space: space})
+	r.tellUnbinds()
+	r.scope.Leave()
 	r.over = len(r.open) == 0
 	r.resume()
 }
