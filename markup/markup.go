@@ -77,6 +77,3 @@ func (p *Parser) Rest() []byte {
 	}
 	return p.reader.Rest()
 }
-
-// Write writes events as text (P13).
-func Write(o api.Options, list []api.Event) ([]byte, api.Errno) { return nil, api.OK }

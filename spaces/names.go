@@ -49,3 +49,11 @@ func declared(name string) string {
 	}
 	return localOf(name)
 }
+
+// Declaration gives the name of the attribute that declares a prefix.
+func Declaration(prefix string) string {
+	if prefix == "" {
+		return "xmlns"
+	}
+	return "xmlns:" + prefix
+}

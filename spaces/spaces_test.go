@@ -99,3 +99,12 @@ func TestOutside(t *testing.T) {
 		t.Errorf("P11: xml is bound to %q", got)
 	}
 }
+
+func TestDeclaration(t *testing.T) {
+	for _, prefix := range []string{"", "p", "xmlns", "a.-9"} {
+		name := Declaration(prefix)
+		if !isDeclaration(name) || declared(name) != prefix {
+			t.Errorf("P13: %q is declared by %q", prefix, name)
+		}
+	}
+}
